@@ -1,0 +1,1 @@
+"""Evenhub: weights on wheels, told exactly."""

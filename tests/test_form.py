@@ -1,0 +1,146 @@
+"""The rules of LANGUAGE.md that a walk over the package's files can see."""
+
+import ast
+import builtins
+import re
+import unittest
+from pathlib import Path
+
+PACKAGE = Path(__file__).resolve().parent.parent / "evenhub"
+
+STATEMENTS = (
+    ast.FunctionDef, ast.ClassDef, ast.ImportFrom, ast.Assign, ast.AugAssign, ast.If, ast.While, ast.For,
+    ast.Return, ast.Break, ast.Continue, ast.Pass, ast.Raise, ast.Try, ast.Expr,
+)
+EXPRESSIONS = (
+    ast.Constant, ast.Name, ast.List, ast.Tuple, ast.Dict, ast.BinOp, ast.UnaryOp, ast.BoolOp, ast.Compare,
+    ast.IfExp, ast.Call, ast.Attribute, ast.Subscript, ast.Slice, ast.ListComp, ast.JoinedStr, ast.FormattedValue,
+    ast.Lambda, ast.Set,
+)
+OWN_NAMES = (
+    "len range enumerate zip min max sum abs sorted reversed int str bool list tuple dict set frozenset isinstance "
+    "ord repr any all divmod Exception ValueError TypeError KeyError IndexError LookupError ZeroDivisionError "
+    "ArithmeticError OverflowError RuntimeError NotImplementedError AttributeError StopIteration"
+).split()
+SPECIAL_METHODS = ("__init__", "__eq__", "__repr__", "__str__", "__len__")
+WORDS_LEFT_OUT = (
+    r"\b(type|typing|typing_extensions|enum|Enum|IntEnum|StrEnum|Flag|IntFlag|Generic|Protocol|ABC|ABCMeta|"
+    r"namedtuple|NamedTuple|TypedDict|TYPE_CHECKING|abstractmethod)\b|dataclass|overload|contextmanager"
+)
+
+
+def package_files():
+    return sorted(PACKAGE.glob("*.py"))
+
+
+def each_node():
+    for path in package_files():
+        for node in ast.walk(ast.parse(path.read_text(encoding="utf-8"))):
+            yield f"{path.name}, line {getattr(node, 'lineno', 0)}", node
+
+
+def bound_names(node):
+    if isinstance(node, ast.Name) and isinstance(node.ctx, ast.Store):
+        return [node.id]
+    if isinstance(node, (ast.FunctionDef, ast.ClassDef)):
+        return [node.name]
+    if isinstance(node, ast.arg):
+        return [node.arg]
+    if isinstance(node, ast.ExceptHandler) and node.name:
+        return [node.name]
+    if isinstance(node, ast.alias):
+        return [node.asname or node.name]
+    return []
+
+
+class Form(unittest.TestCase):
+    def test_l1_l14_files_and_signs(self):
+        self.assertIn(PACKAGE / "__init__.py", package_files())
+        for path in PACKAGE.rglob("*"):
+            if "__pycache__" not in path.parts and path.is_file():
+                with self.subTest(file=path.name):
+                    self.assertRegex(path.name, r"^([a-z][a-z0-9_]*|__init__|__main__)\.py$")
+                    self.assertRegex(path.read_bytes(), rb"^[ -~\n]*\Z")
+
+    def test_l2_l16_imports(self):
+        for where, node in each_node():
+            self.assertNotIsInstance(node, ast.Import, where)
+            if isinstance(node, ast.ImportFrom):
+                self.assertEqual(node.level, 0, where)
+                self.assertRegex(node.module, r"^evenhub\.[a-z]", where)
+                self.assertNotIn("*", [alias.name for alias in node.names], where)
+
+    def test_l4_l5_functions_and_classes(self):
+        for where, node in each_node():
+            if isinstance(node, ast.FunctionDef):
+                self.assertEqual(node.decorator_list, [], where)
+                self.assertIsNone(node.args.vararg, where)
+                self.assertIsNone(node.args.kwarg, where)
+                self.assertEqual(node.args.kwonlyargs + node.args.posonlyargs, [], where)
+            if isinstance(node, ast.ClassDef):
+                self.assertEqual(node.decorator_list + node.keywords, [], where)
+                self.assertLessEqual(len(node.bases), 1, where)
+                for inner in node.body:
+                    self.assertIsInstance(inner, (ast.FunctionDef, ast.Pass), where)
+
+    def test_l6_l7_statements_and_expressions(self):
+        for where, node in each_node():
+            if isinstance(node, ast.stmt):
+                self.assertIsInstance(node, STATEMENTS, where)
+            if isinstance(node, ast.expr):
+                self.assertIsInstance(node, EXPRESSIONS, where)
+            if isinstance(node, ast.Assign):
+                self.assertEqual(len(node.targets), 1, where)
+            if isinstance(node, (ast.For, ast.While)):
+                self.assertEqual(node.orelse, [], where)
+            if isinstance(node, ast.Try):
+                self.assertEqual(node.finalbody, [], where)
+            if isinstance(node, (ast.BinOp, ast.AugAssign)):
+                self.assertNotIsInstance(node.op, (ast.Div, ast.MatMult), where)
+            if isinstance(node, ast.Constant):
+                self.assertIn(type(node.value), (int, str, bool, type(None)), where)
+
+    def test_l6_an_expression_by_itself_is_a_call(self):
+        for path in package_files():
+            tree = ast.parse(path.read_text(encoding="utf-8"))
+            for node in ast.walk(tree):
+                if isinstance(node, ast.Expr) and node != tree.body[0]:
+                    with self.subTest(file=path.name, line=node.lineno):
+                        self.assertIsInstance(node.value, ast.Call)
+
+    def test_l8_l12_l15_names(self):
+        for where, node in each_node():
+            if isinstance(node, ast.Name) and isinstance(node.ctx, ast.Load) and hasattr(builtins, node.id):
+                self.assertIn(node.id, OWN_NAMES, where)
+            for name in bound_names(node):
+                self.assertFalse(hasattr(builtins, name), f"{where}: {name}")
+                if name not in SPECIAL_METHODS:
+                    self.assertRegex(name, r"^[A-Za-z][A-Za-z0-9_]*$", where)
+
+    def test_l10_size(self):
+        for path in package_files():
+            lines = path.read_text(encoding="utf-8").split("\n")
+            self.assertLessEqual(len(lines), 400, path.name)
+            self.assertLessEqual(max(len(line) for line in lines), 120, path.name)
+        for where, node in each_node():
+            if isinstance(node, ast.FunctionDef):
+                self.assertLessEqual(node.end_lineno - node.lineno + 1, 40, where)
+
+    def test_l17_words_left_out(self):
+        for path in package_files():
+            self.assertIsNone(re.search(WORDS_LEFT_OUT, path.read_text(encoding="utf-8")), path.name)
+
+    def test_l20_is_stands_beside_none_true_and_false(self):
+        for where, node in each_node():
+            if isinstance(node, ast.Compare) and isinstance(node.ops[0], (ast.Is, ast.IsNot)):
+                self.assertIsInstance(node.comparators[0], ast.Constant, where)
+                self.assertIn(node.comparators[0].value, (None, True, False), where)
+
+    def test_l27_no_percent_sign_within_a_text(self):
+        for where, node in each_node():
+            if isinstance(node, ast.Constant) and isinstance(node.value, str):
+                self.assertNotIn("%", node.value, where)
+
+
+if __name__ == "__main__":
+    unittest.main()
