@@ -23,6 +23,11 @@ OWN_NAMES = (
     "ArithmeticError OverflowError RuntimeError NotImplementedError AttributeError StopIteration"
 ).split()
 SPECIAL_METHODS = ("__init__", "__eq__", "__repr__", "__str__", "__len__")
+METHODS = (
+    "append clear copy count endswith extend find get index insert isalnum isalpha isdigit islower isspace isupper "
+    "items join keys ljust lower lstrip partition pop remove replace reverse rfind rjust rpartition rsplit rstrip "
+    "setdefault split splitlines startswith strip update upper values zfill bit_length"
+).split()
 WORDS_LEFT_OUT = (
     r"\b(type|typing|typing_extensions|enum|Enum|IntEnum|StrEnum|Flag|IntFlag|Generic|Protocol|ABC|ABCMeta|"
     r"namedtuple|NamedTuple|TypedDict|TYPE_CHECKING|abstractmethod)\b|dataclass|overload|contextmanager"
@@ -53,6 +58,23 @@ def bound_names(node):
     return []
 
 
+def top_names(node):
+    if isinstance(node, ast.Assign):
+        return [target.id for target in node.targets]
+    return bound_names(node)
+
+
+def drawn_from(path):
+    tree = ast.parse(path.read_text(encoding="utf-8"))
+    return [node.module for node in ast.walk(tree) if isinstance(node, ast.ImportFrom)]
+
+
+def own_names(tree):
+    # What a file's defs may not call a parameter or a local: its classes and imports.
+    imports = [alias.name for node in tree.body if isinstance(node, ast.ImportFrom) for alias in node.names]
+    return imports + [node.name for node in tree.body if isinstance(node, ast.ClassDef)]
+
+
 class Form(unittest.TestCase):
     def test_l1_l14_files_and_signs(self):
         self.assertIn(PACKAGE / "__init__.py", package_files())
@@ -69,6 +91,38 @@ class Form(unittest.TestCase):
                 self.assertEqual(node.level, 0, where)
                 self.assertRegex(node.module, r"^evenhub\.[a-z]", where)
                 self.assertNotIn("*", [alias.name for alias in node.names], where)
+
+    def test_l16_no_two_files_draw_from_one_another(self):
+        left = {f"evenhub.{path.stem}": drawn_from(path) for path in package_files()}
+        while left:
+            free = [name for name, modules in left.items() if not any(module in left for module in modules)]
+            self.assertNotEqual(free, [], sorted(left))
+            for name in free:
+                del left[name]
+
+    def test_l16_a_name_is_drawn_from_the_file_that_defines_it(self):
+        for path in package_files():
+            tree = ast.parse(path.read_text(encoding="utf-8"))
+            for node in [node for node in tree.body if isinstance(node, ast.ImportFrom)]:
+                source = PACKAGE / f"{node.module.split('.')[1]}.py"
+                body = ast.parse(source.read_text(encoding="utf-8")).body
+                defined = [name for inner in body if not isinstance(inner, ast.ImportFrom)
+                           for name in top_names(inner)]
+                for alias in node.names:
+                    self.assertIn(alias.name, defined, path.name)
+
+    def test_l15_no_parameter_or_local_is_called_like_a_class_or_an_import(self):
+        for path in package_files():
+            tree = ast.parse(path.read_text(encoding="utf-8"))
+            for outer in [node for node in ast.walk(tree) if isinstance(node, ast.FunctionDef)]:
+                bound = [name for node in ast.walk(outer) if node is not outer for name in bound_names(node)]
+                self.assertEqual([name for name in bound if name in own_names(tree)], [], f"{path.name}, {outer.name}")
+
+    def test_l25_methods(self):
+        defined = [node.name for where, node in each_node() if isinstance(node, ast.FunctionDef)]
+        for where, node in each_node():
+            if isinstance(node, ast.Call) and isinstance(node.func, ast.Attribute):
+                self.assertIn(node.func.attr, METHODS + defined, where)
 
     def test_l4_l5_functions_and_classes(self):
         for where, node in each_node():

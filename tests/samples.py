@@ -1,0 +1,159 @@
+"""What several tests share: numbers of many figures, loads, how a refusal is asked for, and a second way to evenness."""
+
+import random
+from functools import lru_cache
+
+from evenhub import errors
+
+GREAT = 10 ** 299 + 7
+# More figures than Python makes a text of: such numbers come of what was told.
+TOLD = 10 ** 5000 + 9
+
+REFUSALS = (
+    errors.NoTurn, errors.NoFit, errors.TooWide, errors.NoRing, errors.NoHole, errors.NoWheel, errors.NoNumber,
+    errors.NoQuotient, errors.NoText, errors.NoName, errors.NoRow,
+)
+
+# Wheels with no prime, one, two, three and four of them, with and without squares, up to the most holes.
+WHEELS = (
+    1, 2, 3, 4, 5, 6, 7, 8, 9, 10, 12, 15, 16, 18, 20, 24, 25, 27, 30, 36, 42, 60, 64, 81, 90, 97, 105, 125, 128, 180,
+    210, 243, 256, 289, 315, 330, 343, 360, 390, 396, 400, 409, 418, 419, 420,
+)
+FEW_WHEELS = (1, 2, 3, 4, 6, 8, 9, 12, 15, 30, 36, 97, 210, 420)
+
+
+def chance(*words):
+    # The same for the same words, so that each run asks the same.
+    return random.Random(" ".join(str(word) for word in words))
+
+
+def small_load(n, *words):
+    source = chance(n, *words)
+    return [source.randint(-9, 9) for hole in range(n)]
+
+
+def sparse_load(n, *words):
+    source = chance(n, *words)
+    return [source.choice((0, 0, 0, 0, 1, -1, 5)) for hole in range(n)]
+
+
+def great_load(n, *words):
+    source = chance(n, *words)
+    return [source.randint(-GREAT, GREAT) for hole in range(n)]
+
+
+def loads_of(n, *words):
+    return [
+        [0] * n, [1] * n, [0] * (n - 1) + [1], small_load(n, *words), sparse_load(n, *words), great_load(n, *words),
+    ]
+
+
+def primes_of(n):
+    return [p for p in range(2, n + 1) if n % p == 0 and all(p % d for d in range(2, p))]
+
+
+def ring_told(n, p, hole):
+    places = [(hole + k * (n // p)) % n for k in range(p)]
+    return [1 if place in places else 0 for place in range(n)]
+
+
+def laid_told(n, rows):
+    load = [0] * n
+    for p, hole, many in rows:
+        load = [weight + many * more for weight, more in zip(load, ring_told(n, p, hole))]
+    return load
+
+
+def some_rows(n, count, *words, most=9):
+    source = chance(n, count, *words)
+    primes = primes_of(n)
+    if not primes:
+        return []
+    return [
+        (source.choice(primes), source.randint(-3 * n, 3 * n), source.randint(-most, most)) for k in range(count)
+    ]
+
+
+def sum_told(one, other):
+    return [weight + more for weight, more in zip(one, other, strict=True)]
+
+
+def divided(numbers, by):
+    # The row of numbers, as one in powers, divided by a row whose last number is 1: the quotient and what is left.
+    left = list(numbers)
+    quotient = [0] * max(len(left) - len(by) + 1, 0)
+    for k in range(len(quotient) - 1, -1, -1):
+        quotient[k] = left[k + len(by) - 1]
+        for j, number in enumerate(by):
+            left[k + j] -= quotient[k] * number
+    return quotient, left
+
+
+@lru_cache(None)
+def circle_row(n):
+    # The row that just the turns with the least wheel n are roots of.
+    row = [-1] + [0] * (n - 1) + [1]
+    for d in range(1, n):
+        if n % d == 0:
+            row, left = divided(row, circle_row(d))
+            assert not any(left)
+    return tuple(row)
+
+
+def even_told(load):
+    # A load is even just where the circle row of its wheel divides it: a way that knows of no rings.
+    quotient, left = divided(load, circle_row(len(load)))
+    return not any(left)
+
+
+def assert_refused(test, refusal, asked, *handed):
+    with test.assertRaises(refusal) as taken:
+        asked(*handed)
+    test.assertIsInstance(taken.exception, errors.HubError)
+    test.assertIsInstance(taken.exception, ValueError)
+    for other in REFUSALS:
+        if other is not refusal:
+            test.assertNotIsInstance(taken.exception, other)
+
+
+def assert_load(test, load, n):
+    test.assertIs(type(load), list)
+    test.assertEqual(len(load), n)
+    for weight in load:
+        test.assertIs(type(weight), int)
+
+
+def assert_own_list(test, asked, *handed):
+    # Lists of what is handed in stay as they are, and what the asker does with an answer changes no other one.
+    before = copied(handed)
+    told = asked(*handed)
+    test.assertEqual(copied(handed), before)
+    kept = copied(told)
+    again = asked(*handed)
+    test.assertEqual(again, kept)
+    for spoiled in lists_in(again):
+        spoiled.append(77)
+        spoiled[0] = 78
+        spoiled.reverse()
+    test.assertEqual(told, kept)
+    test.assertEqual(copied(handed), before)
+    test.assertEqual(asked(*handed), kept)
+    for changed in lists_in(handed):
+        changed.append(79)
+        changed[0] = 80
+    test.assertEqual(told, kept)
+    test.assertEqual(asked(*before), kept)
+
+
+def copied(thing):
+    if isinstance(thing, (list, tuple)):
+        return type(thing)(copied(inner) for inner in thing)
+    return thing
+
+
+def lists_in(thing):
+    if isinstance(thing, list):
+        return [thing]
+    if isinstance(thing, tuple):
+        return [found for inner in thing for found in lists_in(inner)]
+    return []
