@@ -1,7 +1,7 @@
 """What primes make of a number: its parts, sign, divisors and units, and the way back from a step."""
 
 from evenhub.errors import NoTurn
-from evenhub.wholes import divisor
+from evenhub.wholes import divisor, euclid
 
 
 def parts(n):
@@ -57,21 +57,9 @@ def units(n):
 
 
 def back(step, n):
-    if divisor(step, n) != 1:
+    told = euclid(n, step % n, 0)
+    if told[0] != 1:
         # The step isn't told in words: one of very many figures can't be made a text.
         raise NoTurn("the divisor of the step and the number isn't 1")
-    # Each rest is, by n, the product of step and its count; the last one but 0 is 1.
-    rest = n
-    count = 0
-    later_rest = step % n
-    later_count = 1
-    while later_rest != 0:
-        many = rest // later_rest
-        new_rest = rest - many * later_rest
-        new_count = count - many * later_count
-        rest = later_rest
-        count = later_count
-        later_rest = new_rest
-        later_count = new_count
     # From 1 to n and not from 0 on, so that by 1 the answer is 1.
-    return (count - 1) % n + 1
+    return (told[1] - 1) % n + 1

@@ -21,6 +21,10 @@ def laid(n, rows):
 
 def lay_ring(load, p, hole, many):
     # This changes the load it is handed, so it is handed only loads that are still being made.
-    step = len(load) // p
-    for place in range(hole % step, len(load), step):
+    for place in ring_holes(len(load), p, hole):
         load[place] = load[place] + many
+
+
+def ring_holes(n, p, hole):
+    step = n // p
+    return list(range(hole % step, n, step))

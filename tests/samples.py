@@ -1,5 +1,6 @@
-"""What several tests share: numbers of many figures, loads, how a refusal is asked for, and a second way to evenness."""
+"""What several tests share: numbers of many figures, loads, steps, a second way to evenness, what is asked often."""
 
+import itertools
 import random
 from functools import lru_cache
 
@@ -48,8 +49,9 @@ def loads_of(n, *words):
     ]
 
 
+@lru_cache(None)
 def primes_of(n):
-    return [p for p in range(2, n + 1) if n % p == 0 and all(p % d for d in range(2, p))]
+    return tuple(p for p in range(2, n + 1) if n % p == 0 and all(p % d for d in range(2, p)))
 
 
 def ring_told(n, p, hole):
@@ -62,6 +64,20 @@ def laid_told(n, rows):
     for p, hole, many in rows:
         load = [weight + many * more for weight, more in zip(load, ring_told(n, p, hole))]
     return load
+
+
+def parts_told(n):
+    return [(p, max(p ** k for k in range(1, 10) if n % p ** k == 0)) for p in primes_of(n)]
+
+
+@lru_cache(None)
+def shares_by_hole(n):
+    # Every list of shares there is, by the hole that it comes to.
+    found = {hole: [] for hole in range(n)}
+    parts = parts_told(n)
+    for told in itertools.product(*[range(q) for p, q in parts]):
+        found[sum(c * (n // q) for c, (p, q) in zip(told, parts)) % n].append(list(told))
+    return found
 
 
 def some_rows(n, count, *words, most=9):
@@ -106,6 +122,15 @@ def even_told(load):
     return not any(left)
 
 
+def weighed_told(load, weights):
+    return sum(weight * number for weight, number in zip(load, weights, strict=True))
+
+
+def rings_weigh_nought(weights):
+    n = len(weights)
+    return not any(sum(weights[s::n // p]) for p in primes_of(n) for s in range(n // p))
+
+
 def assert_refused(test, refusal, asked, *handed):
     with test.assertRaises(refusal) as taken:
         asked(*handed)
@@ -121,6 +146,52 @@ def assert_load(test, load, n):
     test.assertEqual(len(load), n)
     for weight in load:
         test.assertIs(type(weight), int)
+
+
+def assert_rows(test, n, rows):
+    test.assertIs(type(rows), list)
+    for row in rows:
+        test.assertIs(type(row), tuple)
+        test.assertTrue(all(type(number) is int for number in row))
+        p, hole, many = row
+        test.assertIn(p, primes_of(n))
+        test.assertTrue(0 <= hole < n)
+        test.assertNotEqual(many, 0)
+    test.assertEqual(len({(p, hole) for p, hole, many in rows}), len(rows))
+
+
+def some_numbers(count, most, *words):
+    source = chance(count, most, *words)
+    return [source.randint(-most, most) for k in range(count)]
+
+
+def some_steps(count, size, most, *words):
+    return [some_numbers(size, most, count, k, *words) for k in range(count)]
+
+
+def taken_told(steps, counts, size):
+    return [sum(many * step[k] for many, step in zip(counts, steps, strict=True)) for k in range(size)]
+
+
+def assert_counts(test, counts, size):
+    test.assertIs(type(counts), list)
+    test.assertEqual(len(counts), size)
+    test.assertTrue(all(type(many) is int for many in counts))
+
+
+def assert_bar(test, bar, steps, goal):
+    # Each step weighs what the modulus divides, and the goal doesn't; told back is the modulus.
+    word, weights, modulus = bar
+    test.assertEqual(word, "bar")
+    assert_counts(test, weights, len(goal))
+    test.assertIs(type(modulus), int)
+    test.assertTrue(modulus == 0 or modulus >= 2)
+    rests = [weighed_told(step, weights) for step in steps + [goal]]
+    if modulus:
+        rests = [number % modulus for number in rests]
+    test.assertFalse(any(rests[:-1]))
+    test.assertNotEqual(rests[-1], 0)
+    return modulus
 
 
 def assert_own_list(test, asked, *handed):
@@ -152,8 +223,8 @@ def copied(thing):
 
 
 def lists_in(thing):
-    if isinstance(thing, list):
-        return [thing]
-    if isinstance(thing, tuple):
-        return [found for inner in thing for found in lists_in(inner)]
-    return []
+    found = [thing] if isinstance(thing, list) else []
+    if isinstance(thing, (list, tuple)):
+        for inner in thing:
+            found.extend(lists_in(inner))
+    return found

@@ -28,6 +28,13 @@ METHODS = (
     "items join keys ljust lower lstrip partition pop remove replace reverse rfind rjust rpartition rsplit rstrip "
     "setdefault split splitlines startswith strip update upper values zfill bit_length"
 ).split()
+WALKED_AT_ONCE = ("zip", "enumerate", "reversed", "range")
+WALKERS = ("list", "tuple", "dict", "sorted", "sum", "any", "all", "enumerate", "zip", "min", "max")
+KEYWORDS = {
+    "sorted": ("key", "reverse"), "min": ("key", "default"), "max": ("key", "default"), "sum": ("start",),
+    "enumerate": ("start",), "zip": ("strict",),
+}
+VALUES_LIKE_PYTHONS = "count index title find get join lower upper split strip copy add".split()
 WORDS_LEFT_OUT = (
     r"\b(type|typing|typing_extensions|enum|Enum|IntEnum|StrEnum|Flag|IntFlag|Generic|Protocol|ABC|ABCMeta|"
     r"namedtuple|NamedTuple|TypedDict|TYPE_CHECKING|abstractmethod)\b|dataclass|overload|contextmanager"
@@ -67,6 +74,21 @@ def top_names(node):
 def drawn_from(path):
     tree = ast.parse(path.read_text(encoding="utf-8"))
     return [node.module for node in ast.walk(tree) if isinstance(node, ast.ImportFrom)]
+
+
+def walked_calls(tree):
+    # The calls that stand behind the `in` of a walk, or as the first thing in a call that walks them at once.
+    found = []
+    for node in ast.walk(tree):
+        if isinstance(node, (ast.For, ast.comprehension)):
+            found.append(node.iter)
+        if isinstance(node, ast.Call) and isinstance(node.func, ast.Name) and node.func.id in WALKERS:
+            found.extend(node.args if node.func.id == "zip" else node.args[:1])
+    return found
+
+
+def is_call_of(node, names):
+    return isinstance(node, ast.Call) and isinstance(node.func, ast.Name) and node.func.id in names
 
 
 def own_names(tree):
@@ -167,8 +189,8 @@ class Form(unittest.TestCase):
             if isinstance(node, ast.Name) and isinstance(node.ctx, ast.Load) and hasattr(builtins, node.id):
                 self.assertIn(node.id, OWN_NAMES, where)
             for name in bound_names(node):
-                self.assertFalse(hasattr(builtins, name), f"{where}: {name}")
                 if name not in SPECIAL_METHODS:
+                    self.assertFalse(hasattr(builtins, name), f"{where}: {name}")
                     self.assertRegex(name, r"^[A-Za-z][A-Za-z0-9_]*$", where)
 
     def test_l10_size(self):
@@ -189,6 +211,49 @@ class Form(unittest.TestCase):
             if isinstance(node, ast.Compare) and isinstance(node.ops[0], (ast.Is, ast.IsNot)):
                 self.assertIsInstance(node.comparators[0], ast.Constant, where)
                 self.assertIn(node.comparators[0].value, (None, True, False), where)
+
+    def test_l7_one_for_and_at_most_one_if(self):
+        for where, node in each_node():
+            if isinstance(node, ast.ListComp):
+                self.assertEqual(len(node.generators), 1, where)
+                self.assertLessEqual(len(node.generators[0].ifs), 1, where)
+
+    def test_l18_l26_methods_and_values_of_objects(self):
+        methods, values = [], []
+        for where, node in each_node():
+            if isinstance(node, ast.ClassDef):
+                methods.extend(inner.name for inner in node.body if isinstance(inner, ast.FunctionDef))
+            if isinstance(node, ast.Attribute) and isinstance(node.ctx, ast.Store):
+                values.append(node.attr)
+        self.assertEqual([name for name in values if name in methods], [])
+        for name in values:
+            for kind in (str, int, list, tuple, dict, set, bytes):
+                self.assertTrue(name in VALUES_LIKE_PYTHONS or not hasattr(kind, name), name)
+
+    def test_l22_keywords(self):
+        for where, node in each_node():
+            if isinstance(node, ast.Call) and isinstance(node.func, ast.Name) and hasattr(builtins, node.func.id):
+                for keyword in node.keywords:
+                    self.assertIn(keyword.arg, KEYWORDS.get(node.func.id, ()), where)
+
+    def test_l23_walked_at_once(self):
+        for path in package_files():
+            tree = ast.parse(path.read_text(encoding="utf-8"))
+            walked = walked_calls(tree)
+            for node in ast.walk(tree):
+                if is_call_of(node, WALKED_AT_ONCE):
+                    self.assertIn(node, walked, f"{path.name}, line {node.lineno}")
+
+    def test_l27_a_written_exponent(self):
+        for where, node in each_node():
+            if isinstance(node, ast.BinOp) and isinstance(node.op, ast.Pow):
+                self.assertIsInstance(node.right, ast.Constant, where)
+                self.assertIn(node.right.value, range(65), where)
+
+    def test_l28_the_methods_with_two_underscores(self):
+        for where, node in each_node():
+            if isinstance(node, ast.FunctionDef) and node.name == "__init__":
+                self.assertFalse(any(isinstance(inner, ast.Return) for inner in ast.walk(node)), where)
 
     def test_l27_no_percent_sign_within_a_text(self):
         for where, node in each_node():

@@ -5,27 +5,18 @@ import unittest
 from math import gcd
 
 from evenhub.loads import finer, plus, scaled
-from evenhub.primes import parts
 from evenhub.rests import is_kept, kept, rest, shares
 from evenhub.rings import laid
 from samples import (
-    FEW_WHEELS, GREAT, TOLD, WHEELS, assert_load, assert_own_list, even_told, great_load, laid_told, loads_of,
-    primes_of, small_load, some_rows, sum_told,
+    FEW_WHEELS, GREAT, TOLD, WHEELS, assert_load, assert_own_list, assert_rows, even_told, great_load, laid_told,
+    loads_of, parts_told, shares_by_hole, small_load, some_rows, sum_told,
 )
 
 MOST = 420
 
 
-def shares_by_hole(n):
-    # Every list of shares there is, by the hole that it comes to.
-    found = {hole: [] for hole in range(n)}
-    for told in itertools.product(*[range(q) for p, q in parts(n)]):
-        found[sum(c * (n // q) for c, (p, q) in zip(told, parts(n))) % n].append(list(told))
-    return found
-
-
 def kept_by_tops(n, told):
-    return all(c // (q // p) != p - 1 for c, (p, q) in zip(told, parts(n)))
+    return all(c // (q // p) != p - 1 for c, (p, q) in zip(told, parts_told(n)))
 
 
 class Shares(unittest.TestCase):
@@ -96,23 +87,12 @@ class Rest(unittest.TestCase):
         self.assertIs(type(told), tuple)
         left, rows = told
         assert_load(self, left, n)
-        self.assert_rows(n, rows)
+        assert_rows(self, n, rows)
         holes = kept(n)
         self.assertFalse(any(weight for hole, weight in enumerate(left) if hole not in holes))
         # Not through `laid` alone, so that a fault there can't hide one here.
         self.assertTrue(sum_told(left, laid_told(n, rows)) == load)
         self.assertTrue(plus(left, laid(n, rows)) == load)
-
-    def assert_rows(self, n, rows):
-        self.assertIs(type(rows), list)
-        for row in rows:
-            self.assertIs(type(row), tuple)
-            p, hole, many = row
-            self.assertTrue(all(type(number) is int for number in row))
-            self.assertIn(p, primes_of(n))
-            self.assertTrue(0 <= hole < n)
-            self.assertNotEqual(many, 0)
-        self.assertEqual(len({(p, hole) for p, hole, many in rows}), len(rows))
 
     def test_written_ones(self):
         for load, left in (

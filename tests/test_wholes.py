@@ -2,7 +2,8 @@
 
 import unittest
 
-from evenhub.wholes import divisor, is_whole, joint, power_rest
+from evenhub.wholes import divisor, euclid, is_whole, joint, power_rest
+from samples import chance
 
 GREAT = 10 ** 299 + 7
 # Three primes, so that the divisors of their products are known without reckoning them.
@@ -13,6 +14,16 @@ PRIME_521 = 2 ** 521 - 1
 
 def greatest_common(one, other):
     return max(d for d in range(1, abs(one) + abs(other) + 1) if one % d == 0 and other % d == 0)
+
+
+def euclid_told(one, other, bits):
+    # One quotient after the other, as it is written.
+    rest, count, later_rest, later_count = one, 0, other, 1
+    while later_rest.bit_length() > bits:
+        many = rest // later_rest
+        rest, later_rest = later_rest, rest - many * later_rest
+        count, later_count = later_count, count - many * later_count
+    return rest, count, later_rest, later_count
 
 
 def least_shared(one, other):
@@ -159,6 +170,35 @@ class PowerRest(unittest.TestCase):
                     self.assertIs(is_whole(rest), True)
                     self.assertTrue(0 <= rest < n)
                     self.assertEqual(rest, pow(base, many, n))
+
+
+class Euclid(unittest.TestCase):
+    def test_small_numbers(self):
+        for one in range(40):
+            for other in range(40):
+                for bits in range(7):
+                    self.assertEqual(euclid(one, other, bits), euclid_told(one, other, bits))
+
+    def test_numbers_of_every_length(self):
+        for number in range(3000):
+            source = chance("euclid", number)
+            one, other = (source.getrandbits(source.randint(0, 900)) for k in range(2))
+            if number % 4 == 1:
+                shared = source.getrandbits(200)
+                one, other = one * shared, other * shared
+            if number % 4 == 2:
+                # A great quotient, and then a rest far shorter.
+                one = other * source.getrandbits(150) + source.getrandbits(20)
+            for bits in (0, source.randint(0, 900)):
+                self.assertEqual(euclid(one, other, bits), euclid_told(one, other, bits))
+
+    def test_quotients_that_hang_on_the_last_bits(self):
+        for number in range(300):
+            source = chance("last bits", number)
+            one = 1 << source.randint(200, 600)
+            for other in (one, one - 1, one + 1, one // 2 + 1, one // 3, one // 3 + 1, one * 2 - 1):
+                for bits in (0, 50):
+                    self.assertEqual(euclid(one, other, bits), euclid_told(one, other, bits))
 
 
 if __name__ == "__main__":
