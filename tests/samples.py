@@ -1,8 +1,9 @@
-"""What several tests share: numbers of many figures, loads, steps, a second way to evenness, what is asked often."""
+"""What several tests share: numbers of many figures, loads, steps, second ways to what is told, what is asked often."""
 
 import itertools
 import random
 from functools import lru_cache
+from math import gcd, lcm
 
 from evenhub import errors
 
@@ -94,6 +95,30 @@ def sum_told(one, other):
     return [weight + more for weight, more in zip(one, other, strict=True)]
 
 
+def times_told(load, many):
+    return [weight * many for weight in load]
+
+
+def laid_on_told(one, other):
+    n = len(one)
+    told = [0] * n
+    for j in range(n):
+        for k in range(n):
+            told[(j + k) % n] += one[j] * other[k]
+    return told
+
+
+def finer_told(load, many):
+    told = [0] * (many * len(load))
+    told[::many] = load
+    return told
+
+
+def skipped_told(load, step):
+    n = len(load)
+    return [weight for place, weight in sorted((hole * step % n, weight) for hole, weight in enumerate(load))]
+
+
 def divided(numbers, by):
     # The row of numbers, as one in powers, divided by a row whose last number is 1: the quotient and what is left.
     left = list(numbers)
@@ -120,6 +145,33 @@ def even_told(load):
     # A load is even just where the circle row of its wheel divides it: a way that knows of no rings.
     quotient, left = divided(load, circle_row(len(load)))
     return not any(left)
+
+
+@lru_cache(None)
+def kept_told(n):
+    parts = parts_told(n)
+    return tuple(
+        hole for hole, (told,) in shares_by_hole(n).items()
+        if all(c // (q // p) != p - 1 for c, (p, q) in zip(told, parts))
+    )
+
+
+def units_told(n):
+    return [k for k in range(1, n + 1) if gcd(k, n) == 1]
+
+
+def is_told_on(load, n):
+    # Whether the wheel of n holes has a load that tells the same: just where all skips by steps that leave 1 by n
+    # leave the load as it is, but for an even one.
+    steps = [step for step in units_told(len(load)) if (step - 1) % n == 0]
+    return all(even_told(sum_told(skipped_told(load, step), times_told(load, -1))) for step in steps)
+
+
+def same_told(one, bottom, other, other_bottom):
+    # Whether two loads with bottoms tell the same value: on one wheel, each times the other's bottom.
+    n = lcm(len(one), len(other))
+    raised = times_told(finer_told(one, n // len(one)), other_bottom)
+    return even_told(sum_told(raised, times_told(finer_told(other, n // len(other)), -bottom)))
 
 
 def weighed_told(load, weights):
@@ -158,6 +210,27 @@ def assert_rows(test, n, rows):
         test.assertTrue(0 <= hole < n)
         test.assertNotEqual(many, 0)
     test.assertEqual(len({(p, hole) for p, hole, many in rows}), len(rows))
+
+
+def assert_form(test, x):
+    # All that can be seen of a value by its tuple alone, but for the least wheel.
+    test.assertIs(type(x), tuple)
+    n, weights, bottom = x
+    test.assertIs(type(n), int)
+    test.assertNotEqual(n % 4, 2)
+    test.assertIs(type(weights), tuple)
+    test.assertEqual(len(weights), n)
+    test.assertTrue(all(type(number) is int for number in weights + (bottom,)))
+    test.assertGreaterEqual(bottom, 1)
+    test.assertEqual(gcd(bottom, *weights), 1)
+    test.assertFalse(any(weight for hole, weight in enumerate(weights) if hole not in kept_told(n)))
+    # On no lesser wheel: of one prime less.
+    test.assertFalse(any(n > 1 and is_told_on(weights, n // p) for p in primes_of(n)), n)
+
+
+def assert_tells(test, x, load, bottom):
+    assert_form(test, x)
+    test.assertTrue(same_told(x[1], x[2], load, bottom))
 
 
 def some_numbers(count, most, *words):

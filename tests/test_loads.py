@@ -6,18 +6,9 @@ from math import gcd
 from evenhub.errors import NoFit, NoTurn, TooWide
 from evenhub.loads import finer, hung, laid_on, plus, scaled, skipped, turned
 from samples import (
-    FEW_WHEELS, GREAT, TOLD, WHEELS, assert_load, assert_own_list, assert_refused, chance, great_load, loads_of,
-    small_load, sparse_load, sum_told,
+    FEW_WHEELS, GREAT, TOLD, WHEELS, assert_load, assert_own_list, assert_refused, chance, great_load,
+    laid_on_told, loads_of, small_load, sparse_load, sum_told,
 )
-
-
-def laid_on_told(one, other):
-    n = len(one)
-    told = [0] * n
-    for j in range(n):
-        for k in range(n):
-            told[(j + k) % n] += one[j] * other[k]
-    return told
 
 
 class Hung(unittest.TestCase):
